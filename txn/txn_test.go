@@ -560,7 +560,7 @@ func fill(t testing.TB, s *txn.Store, now image, size, every int) (image, []imag
 		default:
 			t.Fatalf("Write = %d", e)
 		}
-		if i%every == 0 {
+		if every > 0 && i%every == 0 {
 			mustSave(t, s, len(saved)+1)
 			saved = append(saved, now)
 		}
@@ -572,7 +572,10 @@ func fill(t testing.TB, s *txn.Store, now image, size, every int) (image, []imag
 
 // Promise 6.2: ErrFull does nothing; a full transaction can go back from save to save, be aborted, and be committed.
 func TestFull(t *testing.T) {
-	for _, c := range []struct{ size, every int }{{480, 1}, {100, 1}, {30, 2}, {7, 1}, {0, 1}, {0, 3}} {
+	for _, c := range []struct{ size, every int }{
+		{480, 1}, {100, 1}, {30, 2}, {7, 1}, {0, 1}, {0, 3},
+		{480, 0}, {60, 0}, {20, 0}, {7, 0}, {1, 0}, {0, 0}, {480, 9999}, {40, 9999}, {11, 9999}, {3, 9999}, {0, 9999}, {50, 17}, {5, 23},
+	} {
 		for end := range 3 {
 			d, s := newStore(t, 64, 3)
 			ok(t, "a transaction", s.Begin(), s.Write(2, 2, text(77, 40)), s.Commit(), s.Begin())
@@ -590,7 +593,9 @@ func TestFull(t *testing.T) {
 					ok(t, "Back", s.Back(i+1))
 					tells(t, fmt.Sprint("Back ", i+1), s, want)
 				}
-				now = saved[0]
+				if len(saved) > 0 {
+					now = saved[0]
+				}
 				ok(t, "Commit", s.Commit())
 			}
 			tells(t, "closed", s, now)
@@ -734,7 +739,11 @@ func TestSavesTakeNoRoom(t *testing.T) {
 		mustSave(t, s, i+1)
 		ok(t, "Back", s.Back(i+1), s.Back(i+1))
 	}
-	ok(t, "Write", s.Write(0, 0, text(1, 64)), s.Commit())
+	ok(t, "Write", s.Write(0, 0, text(1, 64)))
+	for i := range 2000 {
+		mustSave(t, s, 2001+i)
+	}
+	ok(t, "Write", s.Write(0, 0, text(2, 64)), s.Commit())
 }
 
 func undone(t testing.TB, s *txn.Store, want int) {
