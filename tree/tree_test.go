@@ -541,7 +541,7 @@ func TestLogFull(t *testing.T) {
 		}
 		tells(t, "closed", x, want)
 		if len(want) > 50 {
-			for k := range want {
+			for _, k := range want.keys() {
 				ok(t, "Begin", s.Begin())
 				_, e := x.Del(k)
 				ok(t, "Del", e, s.Commit())
@@ -562,17 +562,16 @@ type twin struct {
 	log    int
 	keys   int
 	now    list
-	lasts  list           // what was committed
-	saves  map[int]list   // of the open transaction
-	frames func() int     // for the next Open
-	did    func(e string) // hears of each step
+	lasts  list         // what was committed
+	saves  map[int]list // of the open transaction
+	frames func() int   // for the next Open
 }
 
 func newTwin(t testing.TB, seed int64, pages, log, keys int, frames func() int) *twin {
 	d := newDisk(t, txn.Need(pages, log))
 	s, x := open(t, d, pages, log, frames())
 	return &twin{t: t, r: rand.New(rand.NewSource(seed)), d: d, s: s, x: x, pages: pages, log: log, keys: keys,
-		now: list{}, lasts: list{}, saves: map[int]list{}, frames: frames, did: func(string) {}}
+		now: list{}, lasts: list{}, saves: map[int]list{}, frames: frames}
 }
 
 func (w *twin) key() uint64 {
@@ -634,17 +633,16 @@ func (w *twin) put() {
 	}
 }
 
+// back goes to one of the saves by w.r, not by a map's order: what runs of one seed do is the same.
 func (w *twin) back() {
-	for save, was := range w.saves {
-		ok(w.t, "Back", w.s.Back(save))
-		w.now = maps.Clone(was)
-		for later := range w.saves {
-			if later > save {
-				delete(w.saves, later)
-			}
-		}
+	saves := slices.Sorted(maps.Keys(w.saves))
+	if len(saves) == 0 {
 		return
 	}
+	save := saves[w.r.Intn(len(saves))]
+	ok(w.t, "Back", w.s.Back(save))
+	w.now = maps.Clone(w.saves[save])
+	maps.DeleteFunc(w.saves, func(later int, _ list) bool { return later > save })
 }
 
 func (w *twin) abort() {
@@ -687,24 +685,37 @@ func TestAgainstModel(t *testing.T) {
 	}
 }
 
-// W10: what is evicted, and how many frames there are, changes no answer.
+// W10: what is evicted, and how many frames there are, changes no answer, with a log and pages that run full too.
 func TestFramesUnseen(t *testing.T) {
-	told := []string{}
-	for _, frames := range []int{1, 2, 7, 64} {
-		w := newTwin(t, 3, 60, 900, 100, func() int { return frames })
-		for range 2500 {
-			w.step()
-		}
-		n, _ := w.x.Free()
-		h, _ := w.x.Depth()
-		told = append(told, fmt.Sprint(w.now.keys(), n, h))
-		tells(t, "at last", w.x, w.now)
-	}
-	for _, s := range told {
-		if s != told[0] {
-			t.Errorf("other answers with other frames")
+	for seed, c := range []struct{ pages, log, keys int }{{60, 900, 100}, {8, 64, 30}, {8, 900, 200}} {
+		var want []string
+		for _, frames := range []int{64, 7, 2, 1} {
+			got := toldBy(newTwin(t, int64(seed), c.pages, c.log, c.keys, func() int { return frames }))
+			if want == nil {
+				want = got
+			}
+			for i := range got {
+				if got[i] != want[i] {
+					t.Fatalf("%v: with %d frames step %d leaves %s, with 64 %s", c, frames, i, got[i], want[i])
+				}
+			}
 		}
 	}
+}
+
+// toldBy: what w tells behind each of its steps.
+func toldBy(w *twin) []string {
+	var told []string
+	for range 1200 {
+		w.step()
+		n, e := w.x.Free()
+		ok(w.t, "Free", e)
+		h, e := w.x.Depth()
+		ok(w.t, "Depth", e)
+		told = append(told, fmt.Sprint(w.now.keys(), n, h, w.s.Busy(), w.s.Undone()))
+	}
+	tells(w.t, "at last", w.x, w.now)
+	return told
 }
 
 // deed is what a run came to: what was committed, and what would be if the Commit that died had gone through.
