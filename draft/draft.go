@@ -8,6 +8,9 @@ import (
 	"terrier/plan"
 )
 
+// Joined is the Face of a node that an edge has.
+const Joined = -1
+
 // Of: the same plan in memory of its own. All that follows is for such a plan, that nobody else holds.
 func Of(p api.Plan) api.Plan {
 	p.Nodes, p.Edges = slices.Clone(p.Nodes), slices.Clone(p.Edges)

@@ -10,10 +10,8 @@ import (
 	"terrier/topo"
 )
 
-const (
-	outside = 0  // the face of the first region
-	joined  = -1 // the Face of a node that an edge has
-)
+// outside is the face of the first region.
+const outside = 0
 
 // around: the face in which added lies; out is p with it. The ways that are in a ring with it went round that face in p, too; if there is none, its nodes stood alone.
 func around(p, out api.Plan, added api.Edge) int {
