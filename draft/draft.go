@@ -1,11 +1,10 @@
-// Package draft makes the plans that edits answer: in memory of their own, with nodes and edges put in by their IDs and taken out. Layers 17 and above that answer plans lean on it.
+// Package draft makes the plans that edits answer: in memory of their own, with nodes and edges put in by their IDs and taken out; and it tells which of the faces that a plan has is where. Layers 17 and above lean on it.
 package draft
 
 import (
 	"slices"
 
 	"terrier/api"
-	"terrier/plan"
 )
 
 // Joined is the Face of a node that an edge has.
@@ -81,12 +80,3 @@ func ids[T any](l []T, id func(T) int) []int {
 func nodeID(n api.Node) int { return n.ID }
 
 func edgeID(e api.Edge) int { return e.ID }
-
-// Left: the face at the left of way; 0 of what is no way.
-func Left(p api.Plan, way int) int {
-	if e, along := plan.Edge(p, way); along {
-		return e.Left
-	}
-	e, _ := plan.Edge(p, -way)
-	return e.Right
-}

@@ -8,6 +8,7 @@ import (
 
 	"terrier/api"
 	"terrier/draft"
+	"terrier/face"
 )
 
 // lane: two nodes, and two edges between them.
@@ -86,5 +87,32 @@ func TestLeft(t *testing.T) {
 		if f := draft.Left(lane(), way); f != want {
 			t.Error(way, f)
 		}
+	}
+}
+
+// A region has the face that its outer ring tells; the first one, without such a ring, 0.
+func TestFaceOf(t *testing.T) {
+	for _, c := range []struct {
+		r    face.Region
+		want int
+	}{
+		{face.Region{Outer: []int{4, -3}}, 7}, {face.Region{Outer: []int{-3, 4}, Inner: [][]int{{3}}}, 7}, {face.Region{Inner: [][]int{{-3}}, Nodes: []int{2}}, 0}, {face.Region{}, 0}, {face.Region{Outer: []int{99}}, 0},
+	} {
+		if f := draft.FaceOf(lane(), c.r); f != c.want {
+			t.Error(c, f)
+		}
+	}
+}
+
+// A point lies in a face, if no node and no edge is there.
+func TestFaceAt(t *testing.T) {
+	for q, want := range map[api.P]int{{X: 2, Y: -1}: 7, {X: 3, Y: -1}: 7, {X: 9, Y: 9}: 0, {X: 2, Y: 1}: 0, {X: 1, Y: -2}: 0, {X: 1}: -1, {X: 3}: -1, {X: 2, Y: -3}: -1} {
+		f, free := draft.FaceAt(lane(), q)
+		if free != (want >= 0) || f != max(want, 0) {
+			t.Error(q, f, free)
+		}
+	}
+	if f, free := draft.FaceAt(api.Plan{}, api.P{X: 5}); f != 0 || !free {
+		t.Error(f, free)
 	}
 }
